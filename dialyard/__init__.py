@@ -1,0 +1,1 @@
+"""Dialyard: a sundial maker's yard, told in exact fractions."""
