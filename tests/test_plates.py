@@ -6,26 +6,11 @@ from fractions import Fraction
 from dialyard.errors import NoPlate
 from dialyard.plates import comes_from_ahead, front_of, is_ahead, lies_on, look_at_plate, point_of
 from dialyard.ratios import is_ratio
-from helping import BIG, BIGGER, NO_WHOLES, refused, unchanged
-
-E9 = 10 ** 9
-FLOOR = ((0, 0, 0), (4, 0, 0), (0, 2, 0))
-SOUTH_WALL = ((1, 2, 3), (5, 0, 0), (0, 0, 7))
-SLANTED = ((-3, 5, 2), (2, -1, 4), (1, 3, -2))
-FAR = ((E9, -E9, E9), (-E9, E9, 0), (0, E9, -E9))
-PLATES = (FLOOR, SOUTH_WALL, SLANTED, FAR)
+from helping import (
+    BIG, BIGGER, E9, FAR, FLOOR, NO_WHOLES, PLATES, SLANTED, SOUTH_WALL, as_ratio, refused, unchanged, with_number,
+)
 
 PLACE_NUMBERS = ((0, 1), (1, 1), (1, 2), (-1, 3), (5, 2), (-7, 1), (BIG, BIGGER), (-BIGGER, BIG), (BIG, 1))
-
-
-def as_ratio(fraction):
-    return (fraction.numerator, fraction.denominator)
-
-
-def with_number(plate, which, at, number):
-    """The plate with one of its nine numbers exchanged."""
-    triple = tuple(number if k == at else plate[which][k] for k in range(3))
-    return tuple(triple if k == which else plate[k] for k in range(3))
 
 
 class TestLookAtPlate(unittest.TestCase):

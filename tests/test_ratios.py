@@ -8,7 +8,7 @@ from dialyard.errors import NoNumber
 from dialyard.ratios import (
     is_ratio, is_under, is_whole, ratio_by, ratio_less, ratio_of, ratio_sum, ratio_times,
 )
-from helping import BIG, BIGGER, HUGE, NO_WHOLES, WHOLES, refused, unchanged
+from helping import BIG, BIGGER, HUGE, NO_WHOLES, WHOLES, as_ratio, refused, unchanged
 
 RATIOS = (
     (0, 1), (1, 1), (-1, 1), (1, 2), (-1, 2), (1, 3), (2, 3), (-5, 6), (7, 10), (10 ** 9, 1),
@@ -21,10 +21,6 @@ NO_RATIOS = (
     (True, 2), (1, True), (False, 1), (1, False), (1.0, 2), (1, 2.0), ("1", "2"), (None, 1),
     (1, None), ([1], 2), (1, [2]), ((1,), (2,)), ((1, 2), 1), ({}, 1), (1, {}), Fraction(1, 2),
 )
-
-
-def as_ratio(fraction):
-    return (fraction.numerator, fraction.denominator)
 
 
 class TestWhole(unittest.TestCase):
