@@ -21,6 +21,13 @@ CALLS = {
     "shadows": ("shadow_of(plate, tip, direction)", "meeting_of(plate, point, direction)"),
     "hiding": ("hides_point(plate, point, direction)",),
     "yards": ("look_at_yard(thing)", "told_at(yard, hour, name)"),
+    "tracks": (
+        "hours_at(yard, name, place)", "on_one_line(places)", "in_one_plane(directions)", "track_of(yard, name)",
+        "bends_of(yard, name)",
+    ),
+    "staffs": ("staff_tip(plate, foot, height)", "greatest_staff(plate, foot, sun, hours)"),
+    "choosing": ("fewest_dials(yard, hours)", "fewest_gone(yard, hours)"),
+    "parts": ("share_of(part)", "both_of(one, other)"),
 }
 
 

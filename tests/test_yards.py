@@ -4,14 +4,12 @@ import copy
 import unittest
 
 from dialyard.errors import NoHour, NoName, NoSun, NoYard
-from dialyard.plates import lies_on, point_of
 from dialyard.yards import look_at_yard, told_at
 from helping import (
-    BIG, E9, FAR, FLOOR, HUGE, NO_WHOLES, SLANTED, SOUTH_WALL, Draw, Thorn, as_ratio, exchanged, met, refused,
-    unchanged, with_number,
+    BIG, E9, FAR, FLOOR, HUGE, LETTERS, NO_WHOLES, SLANTED, SOUTH_WALL, Draw, Thorn, drawn_yard, exchanged,
+    refused, told_by_the_words, unchanged, with_number,
 )
 
-LETTERS = "abcdefghijklmnopqrstuvwxyz"
 NO_NAMES = (
     "", "abcdefghi", "Gate", "gatE", "GATE", "gate1", "1", "g ate", " gate", "gate ", "ga_te", "ga-te", "gate\n", "\n",
     "\t", "`", "{", "@", "[", "a" * 12000,
@@ -397,45 +395,6 @@ class TestAsked(unittest.TestCase):
         yard[1].clear()
         self.assertEqual(again, ("hidden", ["hut", "moon"]))
         self.assertEqual(told_at(yard, 8, "face"), ("hidden", ["moon"]))
-
-
-def told_by_the_words(yard, hour, name):
-    """What is told, reckoned another way: by three rows with three unknowns."""
-    direction = dict(yard[0])[hour]
-    plates = {thing[0]: thing[1] for thing in yard[1] + yard[2]}
-    tip = {dial[0]: dial[2] for dial in yard[2]}[name]
-    if direction[2] <= 0:
-        return ("down",)
-    found = met(plates[name], [(number, 1) for number in tip], direction)
-    # The tip stands ahead, so from ahead the plane lies against the direction.
-    if found is None or found[2] > 0:
-        return ("behind",)
-    place = (as_ratio(found[0]), as_ratio(found[1]))
-    if not lies_on(place):
-        return ("off", place)
-    point = point_of(plates.pop(name), place)
-    names = []
-    for other, plate in plates.items():
-        there = met(plate, point, direction)
-        if there is not None and there[2] > 0 and 0 <= there[0] <= 1 and 0 <= there[1] <= 1:
-            names.append(other)
-    return ("hidden", sorted(names)) if names else ("read", place)
-
-
-def drawn_yard(draw, most):
-    sun = [(hour, draw.direction(most)) for hour in range(0, 40, 5)]
-    walls = [(name, draw.plate(most)) for name in ("oak", "ash", "zinc")[:draw.number(0, 3)]]
-    dials = []
-    for name in ("moon", "face", "rose"):
-        plate = draw.plate(most)
-        foot = [plate[0][k] + (plate[1][k] + plate[2][k]) // 2 for k in range(3)]
-        tip = tuple(max(-E9, min(E9, foot[k] + draw.number(-2, 2))) for k in range(3))
-        try:
-            look_at_yard((sun, [], [(name, plate, tip)]))
-        except NoYard:
-            continue
-        dials.append((name, plate, tip))
-    return (sun, walls, dials)
 
 
 class TestMany(unittest.TestCase):
