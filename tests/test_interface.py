@@ -28,6 +28,12 @@ CALLS = {
     "staffs": ("staff_tip(plate, foot, height)", "greatest_staff(plate, foot, sun, hours)"),
     "choosing": ("fewest_dials(yard, hours)", "fewest_gone(yard, hours)"),
     "parts": ("share_of(part)", "both_of(one, other)"),
+    "lights": ("shaded_by(plate, other, direction)", "lit_share(yard, hour, name)"),
+    "turnings": (
+        "turned_yard(yard)", "mirrored_yard(yard)", "moved_yard(yard, triple)", "greater_yard(yard, many)",
+    ),
+    "papers": ("shown_yard(yard)", "read_yard(text)"),
+    "desk": ("Desk()",),
 }
 
 
@@ -38,6 +44,11 @@ class TestInterface(unittest.TestCase):
             for call in calls:
                 name = call.partition("(")[0]
                 self.assertEqual(name + str(inspect.signature(getattr(there, name))), call)
+
+    def test_the_desk_is_a_class_that_is_told_rows(self):
+        desk = importlib.import_module("dialyard.desk").Desk
+        self.assertIsInstance(desk, type)
+        self.assertEqual(str(inspect.signature(desk().say)), "(row)")
 
 
 if __name__ == "__main__":

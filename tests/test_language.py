@@ -26,6 +26,13 @@ OWN_NAMES = set(
     "StopIteration".split()
 )
 TWO_UNDERSCORES = set("__init__ __eq__ __repr__ __str__ __len__".split())
+WALKED = set("zip enumerate reversed range".split())
+WALKS = set("list tuple dict sorted sum any all enumerate zip min max".split())
+METHODS = set(
+    "append clear copy count endswith extend find get index insert isalnum isalpha isdigit islower isspace isupper items "
+    "join keys ljust lower lstrip partition pop remove replace reverse rfind rjust rpartition rsplit rstrip setdefault "
+    "split splitlines startswith strip update upper values zfill bit_length".split()
+)
 WORDS = re.compile(
     r"\b(type|typing|typing_extensions|enum|Enum|IntEnum|StrEnum|Flag|IntFlag|Generic|Protocol|ABC|ABCMeta"
     r"|namedtuple|NamedTuple|TypedDict|TYPE_CHECKING|abstractmethod)\b|dataclass|overload|contextmanager"
@@ -134,9 +141,46 @@ def faults_of_top(tree):
         yield "L15: a name is bound twice at the top"
 
 
+def is_walked(node, above):
+    """Whether a zip, a range and their like stand where they are walked on the spot."""
+    if isinstance(above, (ast.For, ast.comprehension)):
+        return above.iter is node
+    if not isinstance(above, ast.Call) or node not in above.args:
+        return False
+    if isinstance(above.func, ast.Attribute):
+        return above.func.attr == "join" and isinstance(above.func.value, ast.Constant)
+    return isinstance(above.func, ast.Name) and above.func.id in WALKS
+
+
+def faults_of_calls(tree):
+    above = {below: node for node in ast.walk(tree) for below in ast.iter_child_nodes(node)}
+    own = [node.name for node in ast.walk(tree) if isinstance(node, ast.FunctionDef)]
+    for node in ast.walk(tree):
+        if isinstance(node, ast.Call) and isinstance(node.func, ast.Name):
+            if node.func.id in WALKED and not is_walked(node, above[node]):
+                yield f"L23: {node.func.id} is kept (line {node.lineno})"
+        if isinstance(node, ast.Call) and isinstance(node.func, ast.Attribute):
+            if node.func.attr not in METHODS and node.func.attr not in own:
+                yield f"L25: {node.func.attr} is not used (line {node.lineno})"
+        if isinstance(node, ast.Name) and isinstance(node.ctx, ast.Load) and node.id in WALKED | {"len", "sorted", "sum"}:
+            if not isinstance(above[node], (ast.Call, ast.keyword)) or node in getattr(above[node], "args", []):
+                yield f"L22: {node.id} is not called (line {node.lineno})"
+
+
+def faults_of_locals(tree):
+    tops = [alias.name for node in tree.body if isinstance(node, ast.ImportFrom) for alias in node.names]
+    tops += [node.name for node in tree.body if isinstance(node, ast.ClassDef)]
+    for top in tree.body:
+        if isinstance(top, (ast.FunctionDef, ast.ClassDef)):
+            for node in ast.walk(top):
+                if not isinstance(node, (ast.FunctionDef, ast.ClassDef)):
+                    for name in set(names_bound(node)) & set(tops):
+                        yield f"L15: {name} is called like an import or a class (line {node.lineno})"
+
+
 def faults_of(text):
     tree = ast.parse(text)
-    faults = faults_of_text(text) + list(faults_of_top(tree))
+    faults = faults_of_text(text) + list(faults_of_top(tree)) + list(faults_of_calls(tree)) + list(faults_of_locals(tree))
     for node in ast.walk(tree):
         for look in (faults_of_names, faults_of_def, faults_of_form):
             faults += [f"{fault} (line {getattr(node, 'lineno', '?')})" for fault in look(node)]
@@ -185,6 +229,8 @@ class TestLanguage(unittest.TestCase):
 class TestTheLookItself(unittest.TestCase):
     def test_plain_code_is_taken(self):
         self.assertEqual(faults_of('"""Why."""\n\nLEAST = 3\n\n\ndef f(x):\n    return [k + 1 for k in x]\n'), [])
+        self.assertEqual(faults_of("def f(x):\n    for k in range(x):\n        f(list(range(k)))\n"), [])
+        self.assertEqual(faults_of('def f(x):\n    return "".join(reversed(sorted(x, key=len)))\n'), [])
 
     def test_faults_are_seen(self):
         for text, rule in (
@@ -199,6 +245,9 @@ class TestTheLookItself(unittest.TestCase):
             ("def f(id):\n    return 1\n", "L15"), ("A = 1\nA = 2\n", "L15"), ("print(1)\n", "L3"),
             ("# its type\n", "L17"), ("# " + "x" * 120 + "\n", "L10"), ("#\t\n", "L14"), ("# \u00e9\n", "L14"),
             ("def f(x):\n" + "    x += 1\n" * 40, "L10"), ("# x\n" * 401, "L10"),
+            ("def f(x):\n    y = range(x)\n", "L23"), ("def f(x):\n    return f(zip(x, x))\n", "L23"),
+            ("def f(x):\n    return x.casefold()\n", "L25"), ("def f(x):\n    return f(len)\n", "L22"),
+            ("from dialyard.plates import front_of\n\n\ndef f(x):\n    front_of = x\n", "L15"),
         ):
             self.assertTrue(any(fault.startswith(rule) for fault in faults_of(text)), text)
 
