@@ -54,7 +54,7 @@ def read_yard(text):
     yard = ([], [], [])
     for number, row in enumerate(text.split("\n")):
         read = read_row(row)
-        if read is None or any([things for things in yard[read[0] + 1:]]):
+        if read is None or any(yard[read[0] + 1:]):
             raise NoRow(number)
         yard[read[0]].append(read[1])
         # What stood ahead was a yard, so it is this row that makes it none.
